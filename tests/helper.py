@@ -1,0 +1,98 @@
+"""Calls written by name, and their answers taken apart."""
+
+from worldtold.desk import answers
+
+
+def row(numbers):
+    return [len(numbers)] + list(numbers)
+
+
+def as_bytes(words):
+    return list(words.encode("latin-1"))
+
+
+def page(lines):
+    return "".join([line + "\n" for line in lines])
+
+
+def text(words):
+    return [0] + row(as_bytes(words))
+
+
+def lines(*told):
+    return text(page(told))
+
+
+def add(words):
+    return [1] + row(as_bytes(words))
+
+
+def cut(n):
+    return [2, n]
+
+
+def swap(n, m):
+    return [3, n, m]
+
+
+CLASH = [4]
+LACKING = [5]
+MAKES = [6]
+SHOWN = [7]
+NORMAL = [8]
+
+
+def parted(numbers):
+    """The answers to several calls, one list for each."""
+    found = []
+    place = 0
+    while place < len(numbers):
+        size = numbers[place]
+        assert size >= 1
+        assert place + 1 + size <= len(numbers)
+        found.append(numbers[place + 1:place + 1 + size])
+        place += 1 + size
+    return found
+
+
+def run(*calls):
+    handed = [number for call in calls for number in call]
+    return parted(answers(handed))
+
+
+def last(*calls):
+    return run(*calls)[-1]
+
+
+def shown(*calls):
+    """The kept text behind the calls."""
+    return bytes(last(*calls, SHOWN)[1:]).decode("latin-1")
+
+
+def clash(*told):
+    """The clash of a text: its way and its lines."""
+    read, found = run(lines(*told), CLASH)
+    assert read == [0, 0, len(told)], read
+    assert found[0] == 0
+    return found[1:]
+
+
+def lacking(*told):
+    read, found = run(lines(*told), LACKING)
+    assert read == [0, 0, len(told)], read
+    assert found[0] == 0
+    return found[1:]
+
+
+def makes(*told):
+    return last(lines(*told), MAKES)
+
+
+def normal(*told):
+    """The one form of a world as lines, or the refusal."""
+    found = last(lines(*told), NORMAL)
+    if found[0] != 0:
+        return found
+    written = bytes(found[1:]).decode("latin-1")
+    assert written == "" or written.endswith("\n")
+    return written.split("\n")[:-1]

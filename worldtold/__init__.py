@@ -1,0 +1,1 @@
+"""A world told in sentences."""
