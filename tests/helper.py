@@ -42,22 +42,70 @@ SHOWN = [7]
 NORMAL = [8]
 
 
-def parted(numbers):
-    """The answers to several calls, one list for each."""
-    found = []
-    place = 0
-    while place < len(numbers):
-        size = numbers[place]
-        assert size >= 1
-        assert place + 1 + size <= len(numbers)
-        found.append(numbers[place + 1:place + 1 + size])
-        place += 1 + size
+def kind(thing):
+    return [9] + row(as_bytes(thing))
+
+
+def chain(kind_name):
+    return [10] + row(as_bytes(kind_name))
+
+
+def is_so(thing, quality):
+    return [11] + row(as_bytes(thing)) + row(as_bytes(quality))
+
+
+def number(thing, number_name):
+    return [12] + row(as_bytes(thing)) + row(as_bytes(number_name))
+
+
+def place(thing):
+    return [13] + row(as_bytes(thing))
+
+
+def things(kind_name):
+    return [14] + row(as_bytes(kind_name))
+
+
+def same(*told):
+    return same_bytes(page(told))
+
+
+def same_bytes(words):
+    return [15] + row(as_bytes(words))
+
+
+def alone(*numbers):
+    return [16] + row(numbers)
+
+
+def names(*told):
+    """Names as they are answered."""
+    found = [len(told)]
+    for name in told:
+        found += row(as_bytes(name))
     return found
 
 
+def parted(numbers):
+    """The answers to several calls, one list for each."""
+    found = []
+    start = 0
+    while start < len(numbers):
+        size = numbers[start]
+        assert size >= 1
+        assert start + 1 + size <= len(numbers)
+        found.append(numbers[start + 1:start + 1 + size])
+        start += 1 + size
+    return found
+
+
+def flat(calls):
+    """The calls one behind another, as they are handed in."""
+    return [value for call in calls for value in call]
+
+
 def run(*calls):
-    handed = [number for call in calls for number in call]
-    return parted(answers(handed))
+    return parted(answers(flat(calls)))
 
 
 def last(*calls):

@@ -3,7 +3,7 @@
 import itertools
 import unittest
 
-from tests.helper import CLASH, add, clash, cut, lines, run, swap
+from tests.helper import CLASH, add, clash, cut, run, swap
 
 NONE = [0]
 

@@ -35,6 +35,17 @@ FORBIDDEN_NAMES = """register mro elements open input version_info with_tracebac
 compile copyright credits delattr dir eval exec exit gc getattr globals hasattr help id importlib license locals
 methodcaller os quit setattr super vars sys format format_map""".split()
 
+KEYWORDS = {"sorted": ["key", "reverse"], "min": ["key", "default"], "max": ["key", "default"], "sum": ["start"],
+            "enumerate": ["start"], "zip": ["strict"]}
+
+# How a list or dict of a file's top may be read.
+READING_CALLS = ("len", "list", "tuple", "dict", "sorted", "enumerate", "zip", "min", "max", "sum", "any", "all")
+READING_METHODS = ("get", "items", "keys", "values", "index", "count", "copy")
+
+CHANGING_METHODS = ("append", "clear", "extend", "insert", "pop", "remove", "reverse", "setdefault", "update")
+METHOD_NAMES_LET = METHODS + ["add", "discard"]
+VALUE_NAMES_LET = "count index title find get join lower upper split strip copy add".split()
+
 
 def files():
     return sorted([name for name in os.listdir(PACKAGE) if name != "__pycache__"])
@@ -238,6 +249,79 @@ class Code(unittest.TestCase):
                 if isinstance(node, ast.Call) and isinstance(node.func, ast.Name):
                     if node.func.id in WALKED + ("set",):
                         self.assertIn(node, walked, (name, node.lineno))
+
+    def test_own_methods_and_values(self):
+        python_names = [name for kind in (str, int, list, tuple, dict, set, frozenset, bytes) for name in dir(kind)]
+        for name, node in nodes(ast.ClassDef):
+            methods = [part.name for part in node.body if isinstance(part, ast.FunctionDef)]
+            self.assertEqual(len(methods), len(set(methods)), (name, node.name))
+            for method in methods:
+                if method != "__init__" and method not in METHOD_NAMES_LET:
+                    self.assertNotIn(method, python_names, (name, node.name))
+        for name, node in nodes(ast.Attribute):
+            if isinstance(node.ctx, ast.Store) and node.attr not in VALUE_NAMES_LET:
+                self.assertNotIn(node.attr, python_names + ["args"], (name, node.lineno))
+
+    def test_no_annotations(self):
+        for name, node in nodes(ast.FunctionDef):
+            self.assertIsNone(node.returns, (name, node.name))
+        for name, node in nodes(ast.arg):
+            self.assertIsNone(node.annotation, (name, node.arg))
+
+    def test_keywords(self):
+        for name, node in nodes(ast.Call):
+            if isinstance(node.func, ast.Name) and hasattr(builtins, node.func.id):
+                for keyword in node.keywords:
+                    self.assertIn(keyword.arg, KEYWORDS.get(node.func.id, []), (name, node.lineno))
+            if isinstance(node.func, ast.Attribute) and node.func.attr in METHODS:
+                self.assertEqual(node.keywords, [], (name, node.lineno))
+
+    def test_pythons_own_names_are_called_or_asked_about(self):
+        for name, tree in trees():
+            called = [node.func for node in ast.walk(tree) if isinstance(node, ast.Call)]
+            bases = [base for node in ast.walk(tree) if isinstance(node, ast.ClassDef) for base in node.bases]
+            for node in ast.walk(tree):
+                if isinstance(node, ast.Name) and hasattr(builtins, node.id):
+                    self.assertIn(node, called + bases, (name, node.lineno))
+
+    def test_methods_are_called_where_they_stand(self):
+        methods = [part.name for name, node in nodes(ast.ClassDef) for part in node.body
+                   if isinstance(part, ast.FunctionDef)]
+        for name, tree in trees():
+            called = [node.func for node in ast.walk(tree) if isinstance(node, ast.Call)]
+            for node in ast.walk(tree):
+                if isinstance(node, ast.Attribute) and node.attr in methods + METHODS:
+                    self.assertIn(node, called, (name, node.lineno))
+
+    def test_lists_and_dicts_of_the_top_are_only_read(self):
+        for name, tree in trees():
+            tops = [node.targets[0].id for node in tree.body
+                    if isinstance(node, ast.Assign) and isinstance(node.value, (ast.Dict, ast.List))]
+            reads = []
+            for node in ast.walk(tree):
+                if isinstance(node, ast.Subscript) and isinstance(node.ctx, ast.Load):
+                    reads.append(node.value)
+                if isinstance(node, ast.Compare):
+                    reads.extend(node.comparators)
+                if isinstance(node, (ast.For, ast.comprehension)):
+                    reads.append(node.iter)
+                if isinstance(node, ast.Attribute) and node.attr in READING_METHODS:
+                    reads.append(node.value)
+                if isinstance(node, ast.Call) and isinstance(node.func, ast.Name) and node.func.id in READING_CALLS:
+                    reads.extend(node.args)
+            for node in ast.walk(tree):
+                if isinstance(node, ast.Name) and node.id in tops and isinstance(node.ctx, ast.Load):
+                    self.assertIn(node, reads, (name, node.lineno))
+
+    def test_what_a_loop_walks_is_not_changed_in_it(self):
+        for name, loop in nodes(ast.For):
+            walked = [ast.dump(node) for node in ast.walk(loop.iter) if isinstance(node, (ast.Name, ast.Attribute))]
+            for node in [part for row in loop.body for part in ast.walk(row)]:
+                if isinstance(node, ast.Call) and isinstance(node.func, ast.Attribute):
+                    if node.func.attr in CHANGING_METHODS:
+                        self.assertNotIn(ast.dump(node.func.value), walked, (name, node.lineno))
+                if isinstance(node, ast.Subscript) and isinstance(node.ctx, ast.Store):
+                    self.assertNotIn(ast.dump(node.value), walked, (name, node.lineno))
 
 
 if __name__ == "__main__":

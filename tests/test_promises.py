@@ -2,7 +2,8 @@
 
 import unittest
 
-from tests.helper import CLASH, LACKING, MAKES, NORMAL, SHOWN, lines, page, run
+from tests.helper import (CLASH, LACKING, MAKES, NORMAL, SHOWN, alone, is_so, lines, number, page, run, same, same_bytes,
+                          swap)
 
 KINDS = ("bee", "beetle", "cow", "doe")
 THINGS = ("rex", "rexy", "tom", "box")
@@ -56,12 +57,12 @@ def any_line(row):
 
 def any_text(row):
     """Lines that clash in many ways."""
-    return [any_line(row) for number in range(1 + row.below(14))]
+    return [any_line(row) for time in range(1 + row.below(14))]
 
 
 def world_text(row):
     """Lines that often make a world, on well founded ground."""
-    return row.mixed(GROUND + [any_line(row) for number in range(row.below(5))])
+    return row.mixed(GROUND + [any_line(row) for time in range(row.below(5))])
 
 
 def asked(told):
@@ -73,7 +74,7 @@ def asked(told):
 class Promises(unittest.TestCase):
     def texts(self):
         row = Row(7)
-        return [any_text(row) for number in range(400)] + [world_text(row) for number in range(400)]
+        return [any_text(row) for time in range(400)] + [world_text(row) for time in range(400)]
 
     def test_the_texts_show_many_ways_and_many_worlds(self):
         ways = {}
@@ -102,10 +103,10 @@ class Promises(unittest.TestCase):
                 self.assertEqual(found, [0, 0])
                 continue
             self.assertEqual(found[2:], sorted(set(found[2:])))
-            alone = [told[number - 1] for number in found[2:]]
-            self.assertNotEqual(asked(alone)[0], [0, 0], told)
-            for place in range(len(alone)):
-                self.assertEqual(asked(alone[:place] + alone[place + 1:])[0], [0, 0], told)
+            chosen = [told[line - 1] for line in found[2:]]
+            self.assertNotEqual(asked(chosen)[0], [0, 0], told)
+            for place in range(len(chosen)):
+                self.assertEqual(asked(chosen[:place] + chosen[place + 1:])[0], [0, 0], told)
 
     def test_4_the_one_form_makes_the_same_world(self):
         tried = 0
@@ -131,6 +132,94 @@ class Promises(unittest.TestCase):
             world = found[0] == [0, 0] and found[1] == [0]
             self.assertEqual(found[2], [0, 1] if world else [0, 0])
             self.assertEqual(found[4][0], 0 if world else -4)
+
+
+class PromisesByCalls(unittest.TestCase):
+    """The promises once more, by the calls that ask about a kept text."""
+
+    def texts(self):
+        row = Row(23)
+        return [any_text(row) for time in range(300)] + [world_text(row) for time in range(300)]
+
+    def worlds(self):
+        return [told for told in self.texts() if run(lines(*told), MAKES)[1] == [0, 1]]
+
+    def test_there_are_worlds(self):
+        self.assertGreater(len(self.worlds()), 50)
+
+    def test_1_by_swap_normal_and_same(self):
+        row = Row(5)
+        for told in self.texts():
+            swaps = [swap(1 + row.below(len(told)), 1 + row.below(len(told))) for time in range(10)]
+            before = run(lines(*told), CLASH, MAKES, NORMAL)[1:]
+            found = run(lines(*told), *swaps, CLASH, MAKES, NORMAL, same(*told))
+            self.assertEqual(found[1:11], [[0]] * 10)
+            self.assertEqual(found[11][1] == 0, before[0][1] == 0, told)
+            self.assertEqual(found[12:14], before[1:], told)
+            self.assertEqual(found[14], [0, 1] if before[1] == [0, 1] else [-4])
+
+    def test_2_by_alone(self):
+        ways = {}
+        for told in self.texts():
+            clash = run(lines(*told), CLASH)[1]
+            if clash == [0, 0]:
+                continue
+            ways[clash[1]] = True
+            left_out = [[line for line in clash[2:] if line != out] for out in clash[2:]]
+            found = run(lines(*told), alone(*clash[2:]), *[alone(*left) for left in left_out])[1:]
+            self.assertNotEqual(found[0][1], 0, told)
+            self.assertEqual([answer[1] for answer in found[1:]], [0] * len(left_out), told)
+        self.assertGreaterEqual(len(ways), 10)
+
+    def check_reasons(self, told, asking):
+        """Check the reasons of what is asked; answer how it is known, or the refusal."""
+        found = run(lines(*told), asking)[1]
+        if found[0] < 0:
+            return found[0]
+        self.assertEqual(found[3:], sorted(set(found[3:])))
+        self.assertEqual(run(lines(*told), alone(*found[3:]))[1], [0, 0, 1], told)
+        chosen = [told[line - 1] for line in found[3:]]
+        self.assertEqual(run(lines(*chosen), asking)[1], found[:3] + list(range(1, len(chosen) + 1)), told)
+        return found[2]
+
+    def test_3_by_alone_and_is_and_number(self):
+        for call, words, ways in ((is_so, QUALITIES, [-6, -5, 1, 2, 3, 4]), (number, NUMBERS, [-6, -5, 1, 3, 4])):
+            hows = {}
+            for told in self.worlds():
+                for thing in THINGS:
+                    for word in words:
+                        hows[self.check_reasons(told, call(thing, word))] = True
+            self.assertEqual(sorted(hows), ways)
+
+    def test_4_by_normal_and_same(self):
+        longer = 0
+        for told in self.worlds():
+            form = bytes(run(lines(*told), NORMAL)[1][1:]).decode()
+            self.assertEqual(run(lines(*told), same_bytes(form))[1], [0, 1], told)
+            longer += 1 if form.count("\n") > 40 else 0
+            if form.count("\n") <= 40:
+                self.assertEqual(run([0, len(form)] + list(form.encode()), same(*told))[1], [0, 1], told)
+        self.assertGreater(longer, 10)
+
+    def test_same_tells_worlds_apart_as_their_one_forms_do(self):
+        worlds = self.worlds()
+        forms = [run(lines(*told), NORMAL)[1] for told in worlds]
+        for place in range(1, len(worlds)):
+            answer = [0, 1 if forms[place - 1] == forms[place] else 0]
+            self.assertEqual(run(lines(*worlds[place - 1]), same(*worlds[place]))[1], answer)
+
+    def test_what_holds_is_what_the_one_form_says(self):
+        for told in self.worlds()[:100]:
+            form = bytes(run(lines(*told), NORMAL)[1][1:]).decode().split("\n")
+            for thing in THINGS:
+                for quality in QUALITIES:
+                    found = run(lines(*told), is_so(thing, quality))[1]
+                    self.assertEqual(f"{thing} is {quality}." in form, found[:2] == [0, 1])
+                    self.assertEqual(f"{thing} is not {quality}." in form, found[:2] == [0, 0])
+                for name in NUMBERS:
+                    found = run(lines(*told), number(thing, name))[1]
+                    said = [line for line in form if line.startswith(f"the {name} of {thing} is ")]
+                    self.assertEqual(said, [f"the {name} of {thing} is {found[1]}."] if found[0] == 0 else [])
 
 
 if __name__ == "__main__":

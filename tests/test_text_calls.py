@@ -2,7 +2,8 @@
 
 import unittest
 
-from tests.helper import SHOWN, add, as_bytes, cut, last, lines, page, row, run, shown, swap, text
+from tests.helper import (SHOWN, add, alone, as_bytes, chain, cut, is_so, kind, lines, number, page, place, row, run,
+                          same, same_bytes, shown, swap, text, things)
 
 LARGEST = 1000000000000000000
 KEPT = ("dog is a kind.", "cat is a kind.", "rex is a dog.")
@@ -242,12 +243,24 @@ class Swap(unittest.TestCase):
 class RefusedCallsChangeNothing(unittest.TestCase):
     def test_one_behind_another(self):
         refused = (cut(0), cut(4), swap(1, 4), swap(1, 0), add("dog"), add("x" * 101), [1] + row([256]),
-                   [0] + row([-1]), text("x" * 4001), text("dog"), lines(*kinds(41)), [8])
+                   [0] + row([-1]), text("x" * 4001), text("dog"), lines(*kinds(41)), [8], kind("rex"), chain("cat"),
+                   is_so("rex", "big"), number("rex", "age"), place("rex"), things("cat"), same("dog is a kind."),
+                   alone(41), kind("x" * 13), same_bytes("x" * 4001), [14] + row([-1]))
         found = run(lines("dog is a kind.", "rex is a cat."), *refused, SHOWN, cut(2), [6])
         self.assertEqual([answer[0] for answer in found[1:10]], [-1, -2, -2, -1, -3, -1, -1, -1, -1])
         self.assertEqual(found[10:13], [[0, 1, 1], [0, 2, 41], [-4]])
-        self.assertEqual(bytes(found[13][1:]), b"dog is a kind.\nrex is a cat.\n")
-        self.assertEqual(found[14:], [[0, 1], [0, 1]])
+        self.assertEqual(found[13:24], [[-4]] * 7 + [[-1]] * 4)
+        self.assertEqual(bytes(found[24][1:]), b"dog is a kind.\nrex is a cat.\n")
+        self.assertEqual(found[25:], [[0, 1], [0, 1]])
+
+    def test_in_a_world(self):
+        kept = ("dog is a kind.", "dog can be big.", "rex is a dog.")
+        refused = (kind("dog"), chain("rex"), is_so("dog", "big"), is_so("rex", "old"), number("rex", "age"),
+                   place("tom"), things("tom"), alone(0), same_bytes("x" * 4001))
+        found = run(lines(*kept), [8], *refused, SHOWN, [8])
+        self.assertEqual(found[2:11], [[-5], [-5], [-5], [-6], [-6], [-5], [-5], [-1], [-1]])
+        self.assertEqual(bytes(found[11][1:]).decode(), page(kept))
+        self.assertEqual(found[12], found[1])
 
 
 if __name__ == "__main__":

@@ -1,7 +1,7 @@
 """Clashes: whether the lines of a text clash, in which way, and which of them."""
 
 from worldtold.forms import IN, IS_A, OVER
-from worldtold.tear import tear_of
+from worldtold.tear import first_tear
 from worldtold.told import Told, steps_to
 
 TWO_PARTS = 1
@@ -41,30 +41,29 @@ def parts_of(line):
     return [(line.about, parts[0]), (line.other, parts[1])]
 
 
-def parts_differ(earlier, line):
-    """Whether a name plays one part in a line and another in the other."""
-    for name, part in parts_of(earlier):
-        for same_name, new_part in parts_of(line):
-            if name == same_name and part != new_part:
-                return True
-    return False
+# What is asked of a line below is asked behind lines that don't clash. So each name plays one part in all of them,
+# and those that speak of the same say the same: the first of them is the first that disagrees, if any does.
 
 
-def are_contrary(earlier, line):
-    """Whether two lines of one form say what can't be both."""
-    if earlier.form != line.form or earlier.about != line.about:
-        return False
+def other_part(played, line):
+    """The number of the first line in which a name of a line plays another part, or 0."""
+    numbers = []
+    for name, part in parts_of(line):
+        earlier = played.get(name, (part, 0))
+        if earlier[0] != part:
+            numbers.append(earlier[1])
+    return min(numbers, default=0)
+
+
+def contrary_line(told, line):
+    """The number of the first line that says what can't be true beside what a line says, or 0."""
     if line.form in (OVER, IS_A, IN):
-        return earlier.other != line.other
-    return earlier.other == line.other and earlier.said != line.said
-
-
-def first_with(lines, line, disagree):
-    """The number of the first of the lines that disagrees with a line, or 0."""
-    for number, earlier in enumerate(lines, start=1):
-        if disagree(earlier, line):
-            return number
-    return 0
+        number = told.first_about(line.form, line.about)
+        agrees = number == 0 or told.line(number).other == line.other
+    else:
+        number = told.first_saying(line.form, line.about, line.other)
+        agrees = number == 0 or told.line(number).said == line.said
+    return 0 if agrees else number
 
 
 def ring_of(told, line):
@@ -74,16 +73,16 @@ def ring_of(told, line):
     return steps_to(told, line.form, line.other, line.about)
 
 
-def clash_with(told, line):
-    """The clash, but for way 7, of a line behind lines that don't clash: its way and its lines, or an empty list."""
+def clash_with(told, played, line):
+    """The clash, but for way 7, of a line behind the told ones: its way and its lines, or an empty list."""
     number = len(told.lines) + 1
     way = way_by_itself(line)
     if way > 0:
         return [way, number]
-    earlier = first_with(told.lines, line, parts_differ)
+    earlier = other_part(played, line)
     if earlier > 0:
         return [TWO_PARTS, earlier, number]
-    earlier = first_with(told.lines, line, are_contrary)
+    earlier = contrary_line(told, line)
     if earlier > 0:
         return [CONTRARY_WAYS[line.form], earlier, number]
     ring = ring_of(told, line)
@@ -92,15 +91,25 @@ def clash_with(told, line):
     return []
 
 
-def clash_of(lines):
-    """The clash of a text: its way, then its lines by rising numbers; an empty list if nothing clashes."""
+def clash_but_tear(lines):
+    """The clash of the first line that clashes in another way than 7, or an empty list."""
     told = Told([])
+    # By name the part that it plays and the first line in which it does.
+    played = {}
     for line in lines:
-        clash = clash_with(told, line)
+        clash = clash_with(told, played, line)
         if len(clash) > 0:
             return clash
         told.tell(line)
-        tear = tear_of(told)
-        if len(tear) > 0:
-            return [TORN] + tear
+        for name, part in parts_of(line):
+            played.setdefault(name, (part, len(told.lines)))
     return []
+
+
+def clash_of(lines):
+    """The clash of a text: its way, then its lines by rising numbers; an empty list if nothing clashes."""
+    clash = clash_but_tear(lines)
+    # Way 7 comes last of all, so only a tear by the lines ahead goes before another clash.
+    ahead = lines[:clash[-1] - 1] if len(clash) > 0 else lines
+    tear = first_tear(ahead)
+    return [TORN] + tear if len(tear) > 0 else clash

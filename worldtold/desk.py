@@ -1,30 +1,24 @@
 """The desk: a text that calls change and ask about, and the calls in a list of numbers."""
 
+from worldtold.asked import chain_answer, held_answer, kind_answer, place_answer, things_answer
 from worldtold.clash import clash_of
+from worldtold.forms import CAN_BE, HAS
 from worldtold.lacking import unfounded_lines
 from worldtold.page import bytes_of, read_page
+from worldtold.refusal import LONGEST_SENTENCE, LONGEST_TEXT, MOST_LINES
+from worldtold.refusal import NO_SENTENCE, NO_WORLD, OUT_OF_RANGE, TEXT_FULL
+from worldtold.refusal import are_bytes, are_line_numbers, refusal_in_world, refusal_of_lines
 from worldtold.sentence import read_sentence
+from worldtold.tape import Tape
 from worldtold.world import makes_world, one_form
 
-MOST_LINES = 40
-LONGEST_TEXT = 4000
-LONGEST_SENTENCE = 100
-LARGEST_BYTE = 255
-
-OUT_OF_RANGE = -1
-NO_SUCH_LINE = -2
-NO_SENTENCE = -3
-NO_WORLD = -4
-TEXT_FULL = -7
+# The calls by what is handed in with them.
+BARE_CALLS = (4, 5, 6, 7, 8)
+ROW_CALLS = (0, 1, 9, 10, 13, 14, 15, 16)
 
 
 class NoSuchCall(ValueError):
     """A call's number that the desk doesn't know."""
-
-
-def are_bytes(row, longest):
-    """Whether a list is no longer than told and holds bytes alone."""
-    return len(row) <= longest and all([0 <= byte <= LARGEST_BYTE for byte in row])
 
 
 class Desk:
@@ -32,14 +26,6 @@ class Desk:
 
     def __init__(self):
         self.lines = []
-
-    def refusal_of_lines(self, numbers):
-        """The refusal that is due for numbers of lines, or 0. The one nearest to 0 is asked first."""
-        if any([number < 1 or number > MOST_LINES for number in numbers]):
-            return OUT_OF_RANGE
-        if any([number > len(self.lines) for number in numbers]):
-            return NO_SUCH_LINE
-        return 0
 
     def text(self, row):
         if not are_bytes(row, LONGEST_TEXT):
@@ -64,14 +50,14 @@ class Desk:
         return [0, len(self.lines)]
 
     def cut(self, number):
-        refusal = self.refusal_of_lines([number])
+        refusal = refusal_of_lines(self.lines, [number])
         if refusal < 0:
             return [refusal]
         self.lines.pop(number - 1)
         return [0, len(self.lines)]
 
     def swap(self, one, two):
-        refusal = self.refusal_of_lines([one, two])
+        refusal = refusal_of_lines(self.lines, [one, two])
         if refusal < 0:
             return [refusal]
         line = self.lines[one - 1]
@@ -97,46 +83,64 @@ class Desk:
             return [NO_WORLD]
         return [0] + bytes_of(one_form(self.lines))
 
+    def kind(self, thing):
+        return kind_answer(self.lines, thing)
 
-class Tape:
-    """The numbers that were handed in, taken one behind another."""
+    def chain(self, kind_name):
+        return chain_answer(self.lines, kind_name)
 
-    def __init__(self, numbers):
-        self.numbers = numbers
-        self.place = 0
+    def is_so(self, thing, quality):
+        return held_answer(self.lines, thing, quality, CAN_BE)
 
-    def at_end(self):
-        return self.place >= len(self.numbers)
+    def number(self, thing, number_name):
+        return held_answer(self.lines, thing, number_name, HAS)
 
-    def take_one(self):
-        self.place = self.place + 1
-        return self.numbers[self.place - 1]
+    def place(self, thing):
+        return place_answer(self.lines, thing)
 
-    def take_row(self):
-        """A list with how many numbers it has before it."""
-        size = self.take_one()
-        start = self.place
-        self.place = start + size
-        return self.numbers[start:start + size]
+    def things(self, kind_name):
+        return things_answer(self.lines, kind_name)
+
+    def same(self, row):
+        refusal = refusal_in_world(self.lines, [row], LONGEST_TEXT)
+        if refusal < 0:
+            return [refusal]
+        lines = read_page(row)
+        if None in lines:
+            return [0, 2, lines.index(None) + 1]
+        if not makes_world(lines):
+            return [0, 3]
+        return [0, 1 if bytes_of(one_form(lines)) == bytes_of(one_form(self.lines)) else 0]
+
+    def alone(self, numbers):
+        if not are_line_numbers(numbers):
+            return [OUT_OF_RANGE]
+        lines = [line for number, line in enumerate(self.lines, start=1) if number in numbers]
+        clash = clash_of(lines)
+        return [0, clash[0] if len(clash) > 0 else 0, 1 if makes_world(lines) else 0]
 
 
-def answer_with_numbers(desk, call, tape):
-    """The answer to a call that has numbers or lists behind its own number."""
+def answer_to_row(desk, call, row):
+    """The answer to a call that has one list behind its number."""
     if call == 0:
-        return desk.text(tape.take_row())
+        return desk.text(row)
     if call == 1:
-        return desk.add(tape.take_row())
-    if call == 2:
-        return desk.cut(tape.take_one())
-    if call == 3:
-        one = tape.take_one()
-        two = tape.take_one()
-        return desk.swap(one, two)
-    raise NoSuchCall(f"no call has the number {call}")
+        return desk.add(row)
+    if call == 9:
+        return desk.kind(row)
+    if call == 10:
+        return desk.chain(row)
+    if call == 13:
+        return desk.place(row)
+    if call == 14:
+        return desk.things(row)
+    if call == 15:
+        return desk.same(row)
+    return desk.alone(row)
 
 
-def answer(desk, call, tape):
-    """The answer to a call."""
+def answer_to_bare(desk, call):
+    """The answer to a call that has nothing behind its number."""
     if call == 4:
         return desk.clash()
     if call == 5:
@@ -145,9 +149,25 @@ def answer(desk, call, tape):
         return desk.makes()
     if call == 7:
         return desk.shown()
-    if call == 8:
-        return desk.normal()
-    return answer_with_numbers(desk, call, tape)
+    return desk.normal()
+
+
+def answer(desk, call, tape):
+    """The answer to a call, whose numbers and lists are taken from the tape."""
+    if call in BARE_CALLS:
+        return answer_to_bare(desk, call)
+    if call in ROW_CALLS:
+        return answer_to_row(desk, call, tape.take_row())
+    if call == 2:
+        return desk.cut(tape.take_one())
+    if call == 3:
+        one = tape.take_one()
+        return desk.swap(one, tape.take_one())
+    if call in (11, 12):
+        thing = tape.take_row()
+        word = tape.take_row()
+        return desk.is_so(thing, word) if call == 11 else desk.number(thing, word)
+    raise NoSuchCall(f"no call has the number {call}")
 
 
 def answers(calls):

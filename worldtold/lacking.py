@@ -1,7 +1,7 @@
 """What is lacking: the lines of a text that nothing founds."""
 
 from worldtold.forms import CAN_BE, HAS, IN, IS, IS_A, KIND, NUMBER, OVER
-from worldtold.told import Told, kinds_up
+from worldtold.told import Told, kinds_up, nearest_saying
 
 # By form the form of the lines that let a kind have what is said: 3 for qualities, 4 for numbers.
 LETTING = {6: 3, 7: 3, 8: 3, 9: 4, 10: 4}
@@ -11,9 +11,9 @@ def is_there(told, kind):
     return told.first_about(KIND, kind) > 0 or told.first_about(OVER, kind) > 0
 
 
-def is_let(told, form, kind, word):
+def is_let(told, letting, kind, word):
     """Whether a kind can be a quality (form 3) or has a number (form 4)."""
-    return any([told.first_saying(form, upper, word) > 0 for upper in kinds_up(told, kind)])
+    return nearest_saying(told, letting, kinds_up(told, kind), word) > 0
 
 
 def has_kind(told, thing):

@@ -1,6 +1,6 @@
 """Texts of bytes: how their lines are read, and how lines are shown."""
 
-from worldtold.sentence import read_sentence, written
+from worldtold.sentence import read_sentence, row_of, written
 
 LINE_END = 10
 
@@ -30,6 +30,6 @@ def bytes_of(lines):
     """The bytes of lines, each with a line's end behind it."""
     row = []
     for line in lines:
-        row.extend([ord(sign) for sign in written(line)])
+        row.extend(row_of(written(line)))
         row.append(LINE_END)
     return row

@@ -48,6 +48,11 @@ def text_of(row):
     return "".join([signs.get(byte, "?") for byte in row])
 
 
+def row_of(text):
+    """The bytes of a text."""
+    return [ord(sign) for sign in text]
+
+
 def is_name(word):
     if len(word) < 1 or len(word) > LONGEST_NAME or word in WORDS:
         return False

@@ -1,7 +1,7 @@
 """Things that are torn by definite words about a quality."""
 
 from worldtold.forms import EVERY, IS, IS_A, OVER
-from worldtold.told import kinds_up, steps_to
+from worldtold.told import Told, kinds_up, steps_to
 
 
 def each_once(names):
@@ -52,3 +52,23 @@ def tear_of(told):
                 steps = steps_to(told, OVER, kind, told.line(number).about)
                 return sorted([home, words[quality][0], number] + steps)
     return []
+
+
+def are_torn(lines):
+    return len(tear_of(Told(lines))) > 0
+
+
+def first_tear(lines):
+    """The lines that tear a thing, as they do at the first line with which one is torn; none if no thing is torn."""
+    if not are_torn(lines):
+        return []
+    # A thing that is torn stays so with more lines behind: the first torn beginning is sought by halves.
+    whole = 0
+    torn = len(lines)
+    while torn - whole > 1:
+        middle = (whole + torn) // 2
+        if are_torn(lines[:middle]):
+            torn = middle
+        else:
+            whole = middle
+    return tear_of(Told(lines[:torn]))

@@ -62,6 +62,25 @@ def steps_to(told, form, name, goal):
     return []
 
 
+def names_above(told, form, name):
+    """All to which one comes going up from a kind (form 2) or a thing (form 11)."""
+    return [told.line(number).other for number in steps_up(told, form, name)]
+
+
 def kinds_up(told, kind):
     """A kind and all to which one comes going up from it."""
-    return [kind] + [told.line(number).other for number in steps_up(told, OVER, kind)]
+    return [kind] + names_above(told, OVER, kind)
+
+
+def nearest_saying(told, form, kinds, word):
+    """The first line of a form that says a word of the first of these kinds of which one does, or 0."""
+    for kind in kinds:
+        number = told.first_saying(form, kind, word)
+        if number > 0:
+            return number
+    return 0
+
+
+def names_about(told, forms):
+    """The names that lines of these forms are about, in order."""
+    return sorted(set([line.about for line in told.lines if line.form in forms]))
